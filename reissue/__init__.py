@@ -1,0 +1,1 @@
+"""When an identifier may be handed out again."""

@@ -1,0 +1,100 @@
+import importlib
+import inspect
+import unittest
+
+from reissue.behaviors import Behavior, is_run
+from reissue.errors import InvalidBehavior
+from reissue.times import earliest, lateness
+
+from samples import session
+
+ERRORS = [
+    "ReissueError", "InvalidBehavior", "InvalidNumber", "InvalidRule", "InvalidList", "InvalidName", "UnknownName",
+    "TakenName", "NotOut", "NoneFree", "NothingToUndo",
+]
+CLASSES = {"reissue.errors": ERRORS, "reissue.behaviors": ["Behavior"]}
+FUNCTIONS = {
+    "reissue.behaviors": {"is_run": ["behavior", "run"]},
+    "reissue.times": {"earliest": ["behavior"], "lateness": ["behavior"]},
+}
+
+
+class Interface(unittest.TestCase):
+    def test_classes_are_defined_where_they_are_listed(self):
+        for module, names in CLASSES.items():
+            for name in names:
+                kind = getattr(importlib.import_module(module), name)
+                self.assertTrue(inspect.isclass(kind), name)
+                self.assertEqual(kind.__module__, module)
+
+    def test_functions_are_defined_where_they_are_listed(self):
+        for module, functions in FUNCTIONS.items():
+            for name, parameters in functions.items():
+                function = getattr(importlib.import_module(module), name)
+                self.assertEqual(function.__module__, module)
+                self.assertEqual(list(inspect.signature(function).parameters), parameters)
+
+    def test_behavior(self):
+        self.assertEqual(list(inspect.signature(Behavior).parameters), ["events", "links", "heard", "opens"])
+        for name in ["events", "links", "heard", "opens", "ISSUE", "RELEASE", "__eq__", "__contains__"]:
+            self.assertIn(name, vars(Behavior))
+            self.assertTrue(hasattr(session(), name))
+
+
+class Point1(unittest.TestCase):
+    def test_by_position_and_by_name(self):
+        run = [(0, None, None, 0), (1, 0, 0, 10)]
+        parts = {"events": 2, "links": [(0, 1, 10, None, False)], "heard": [(1, 4)], "opens": [(0, 5)]}
+        behavior = Behavior(**parts)
+        self.assertEqual(behavior, Behavior(*parts.values()))
+        self.assertEqual((behavior.events, behavior.links), (2, [(0, 1, 10, None, False)]))
+        self.assertEqual((behavior.heard, behavior.opens), ([(1, 4)], [(0, 5)]))
+        self.assertIs(is_run(behavior, run), True)
+        self.assertIs(is_run(behavior=behavior, run=run), True)
+        self.assertEqual(earliest(behavior=behavior), earliest(behavior))
+        self.assertEqual(lateness(behavior=behavior), lateness(behavior))
+
+
+class Point2(unittest.TestCase):
+    def test_true_is_no_whole_number(self):
+        good = (2, [(1, 1, 1, 1, True)], [(1, 1)], [(1, 1)])
+        self.assertEqual(Behavior(*good).events, 2)
+        for at, wrong in [
+            (0, True), (1, [(True, 1, 1, 1, True)]), (1, [(1, True, 1, 1, True)]), (1, [(1, 1, True, 1, True)]),
+            (1, [(1, 1, 1, True, True)]), (1, [(1, 1, 1, 1, 1)]), (2, [(True, 1)]), (2, [(1, True)]),
+            (3, [(True, 1)]), (3, [(1, True)]),
+        ]:
+            parts = list(good)
+            parts[at] = wrong
+            with self.assertRaises(InvalidBehavior, msg=wrong) as caught:
+                Behavior(*parts)
+            self.assertEqual(caught.exception.value, tuple(parts))
+
+    def test_errors_hold_the_arguments_themselves(self):
+        links, heard, opens = [(0, 1, 0, 0, 1)], [], []
+        with self.assertRaises(InvalidBehavior) as caught:
+            Behavior(2, links, heard, opens)
+        links.append("later")
+        self.assertEqual(caught.exception.value, (2, [(0, 1, 0, 0, 1), "later"], [], []))
+        value = []
+        for function in [earliest, lateness, lambda behavior: is_run(behavior, [])]:
+            with self.assertRaises(InvalidBehavior) as caught:
+                function(value)
+            self.assertIs(caught.exception.value, value)
+
+    def test_truth_is_a_boolean(self):
+        behavior = session()
+        for run in [[], None, (), 0, "", {}, [(0, None, None, 0)], [()]]:
+            self.assertIn(is_run(behavior, run).__class__, [bool])
+        for port in [0, 1, None, [], ""]:
+            self.assertIs((port in behavior).__class__, bool)
+        self.assertIs((behavior == None).__class__, bool)  # noqa: E711
+        self.assertIs((behavior == session()).__class__, bool)
+
+    def test_equal_arguments_give_equal_results(self):
+        self.assertEqual(earliest(session()), earliest(session()))
+        self.assertEqual(lateness(session()), lateness(session()))
+
+
+if __name__ == "__main__":
+    unittest.main()

@@ -1,0 +1,111 @@
+import time
+import unittest
+
+from reissue.behaviors import Behavior, is_run
+from reissue.times import earliest, lateness
+
+HIGH = 10 ** 40 - 1
+SECONDS = 5
+PORTS = [(event, port) for event in range(30) for port in range(21)]
+
+
+def row(least, most, many):
+    """Return the links of 30 events in a row, two links from each event to the next."""
+    return [(event, event + 1, least, most, many) for event in range(29) for _ in range(2)]
+
+
+def ring(least, most, many):
+    """Return the links of 29 events in a ring, two from each to the next, and two from the issue to them."""
+    turns = [(event, event % 29 + 1, least, most, many) for event in range(1, 30) for _ in range(2)]
+    return [(0, 2, least, most, many), (0, 1, least, most, many), *turns]
+
+
+def itself(least, most, many):
+    """Return the links of 30 events in a row, and one from each event but the first to itself."""
+    return [link for event in range(29) for link in [
+        (event, event + 1, least, most, many), (event + 1, event + 1, least, most, many),
+    ]]
+
+
+class Point3(unittest.TestCase):
+    def in_time(self, function, *arguments):
+        begin = time.perf_counter()
+        result = function(*arguments)
+        self.assertLess(time.perf_counter() - begin, SECONDS)
+        return result
+
+    def test_all_shapes_in_time(self):
+        for shape in [row, ring, itself]:
+            for least, most in [(0, 0), (0, 1), (1, 1), (HIGH, HIGH), (0, HIGH), (0, None), (HIGH, None)]:
+                for many in [False, True]:
+                    for turn in [1, -1]:
+                        links = shape(least, most, many)[::turn]
+                        behavior = self.in_time(Behavior, 30, links, PORTS, PORTS[::-1])
+                        self.assertEqual(len(self.in_time(earliest, behavior)), 30)
+                        self.assertEqual(len(self.in_time(lateness, behavior)), 30)
+                        self.assertTrue(self.in_time(lambda one: one == one and 20 in one and 21 not in one, behavior))
+
+    def test_row(self):
+        behavior = Behavior(30, row(1, HIGH, False), [], [])
+        self.assertEqual(earliest(behavior), list(range(30)))
+        late = [event * HIGH - 1 for event in range(30)]
+        self.assertEqual(lateness(behavior), [-1, HIGH - 1, *late[2:]])
+
+    def test_row_of_delays_of_0(self):
+        behavior = Behavior(30, row(0, 0, True), [], [])
+        self.assertEqual([earliest(behavior), lateness(behavior)], [[0] * 30, [0] * 30])
+
+    def test_row_without_an_end(self):
+        behavior = Behavior(30, row(0, None, False), [], [])
+        self.assertEqual(lateness(behavior), [0] + ["endless"] * 29)
+
+    def test_rings(self):
+        for most, late in [(0, 0), (1, "endless"), (HIGH, "endless"), (None, "endless")]:
+            behavior = Behavior(30, ring(0, most, False), [], [])
+            self.assertEqual(earliest(behavior), [0] * 30)
+            self.assertEqual(lateness(behavior), [0] + [late] * 29)
+
+    def test_slow_ring(self):
+        # One link of the ring has a delay, and the links stand against their order, also those behind the ring.
+        turns = [(event, event + 1 if event < 15 else 2, 0, int(event == 2), False) for event in range(2, 16)]
+        behind = [(event, event + 1, 0, 0, False) for event in range(15, 29)]
+        links = [(0, 1, 5, 5, False), (0, 2, 0, 0, False), *turns, *behind]
+        for rows in [links, links[::-1]]:
+            self.assertEqual(lateness(Behavior(30, rows, [], [])), [-5, 0] + ["endless"] * 28)
+
+    def test_long_way_round(self):
+        # The release stands at the end of all other events, the links against their order.
+        order = [0, *range(2, 30), 1]
+        links = [(a, b, HIGH, HIGH, False) for a, b in zip(order, order[1:])][::-1]
+        behavior = Behavior(30, links, [], [])
+        self.assertEqual(earliest(behavior), [0, 29 * HIGH, *[turn * HIGH for turn in range(1, 29)]])
+        self.assertEqual(lateness(behavior), [-29 * HIGH, 0, *[-turn * HIGH for turn in range(28, 0, -1)]])
+
+    def test_all_links_of_one_event(self):
+        links = [(0, turn % 29 + 1, turn, HIGH, turn % 2 == 0) for turn in range(60)]
+        behavior = Behavior(30, links, [], [])
+        self.assertEqual(self.in_time(earliest, behavior), [0, *range(29)])
+        self.assertEqual(self.in_time(lateness, behavior), [0] + [HIGH] * 29)
+
+    def test_long_runs(self):
+        behavior = Behavior(2, [(0, 1, 0, None, True), (1, 1, 0, HIGH, False), (1, 1, 1, 1, True)], [], [])
+        chain = [(0, None, None, 0), (1, 0, 0, 0), *[(1, at, 1, at * HIGH) for at in range(1, 199)]]
+        fan = [(0, None, None, 0), *[(1, 0, 0, HIGH)] * 199]
+        for run in [chain, fan]:
+            self.assertEqual(len(run), 200)
+            self.assertIs(self.in_time(is_run, behavior, run), True)
+            self.assertIs(self.in_time(is_run, behavior, [*run, (1, 200, 1, 0)]), False)
+            self.assertIs(self.in_time(is_run, behavior, [*run, None]), False)
+        self.assertIs(is_run(behavior, [*chain[:-1], (1, 198, 1, 198 * HIGH + 1)]), False)
+        self.assertIs(is_run(behavior, [*chain, (1, 150, 1, 149 * HIGH)]), False)
+
+    def test_somewhat_beyond(self):
+        links = [(event, event + 1, 1, 2, True) for event in range(39) for _ in range(2)]
+        behavior = self.in_time(Behavior, 40, links, [(39, 10 ** 45)], [])
+        self.assertEqual(self.in_time(earliest, behavior), list(range(40)))
+        self.assertEqual(self.in_time(lateness, behavior)[39], 2 * 39 - 1)
+        self.assertIn(10 ** 45, behavior)
+
+
+if __name__ == "__main__":
+    unittest.main()
