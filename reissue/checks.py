@@ -1,5 +1,7 @@
 """What kind of number a value is."""
 
+from reissue.errors import InvalidNumber
+
 
 def is_whole(value):
     """Return whether the value is a whole number."""
@@ -15,3 +17,9 @@ def is_at_least(value, low):
 def is_index(value, size):
     """Return whether the value is the index of one of that many items."""
     return is_at_least(value, 0) and value < size
+
+
+def check_at_least(value, low):
+    """Raise InvalidNumber unless the value is a whole number that is not below the given one."""
+    if not is_at_least(value, low):
+        raise InvalidNumber(value)

@@ -1,7 +1,7 @@
 """When the events of a behavior occur: how early, and how late after the release."""
 
 from reissue.behaviors import Behavior, check_behavior
-from reissue.lengths import ENDLESS, greater, lesser, longest, shortest, total
+from reissue.lengths import ENDLESS, greater, longest, shortest
 
 NEVER = "never"
 
@@ -9,68 +9,94 @@ NEVER = "never"
 def earliest(behavior):
     """Return the list of the least times that the events can have in a run."""
     check_behavior(behavior)
-    return [NEVER if time is None else time for time in _least_times(behavior)]
+    return [NEVER if time is None else time for time in least_times(behavior)]
 
 
 def lateness(behavior):
     """Return the list of the greatest times after the first release that the events can have in a run."""
     check_behavior(behavior)
-    seen = _least_times(behavior)
+    seen = least_times(behavior)
     if seen[Behavior.RELEASE] is None:
         return [NEVER] * behavior.events
-    back = _times_to_release(behavior)
-    forks = _forks(behavior, seen, back)
-    walks = _greatest_times(behavior)
-    return [NEVER if seen[event] is None else _latest(event, back, forks, walks) for event in range(behavior.events)]
+    back = times_to_release(behavior)
+    late = late_times(behavior, late_starts(behavior, seen, back))
+    # An event may also come before the release, on one way with it.
+    before = [None if time is None else -time for time in back]
+    return [NEVER if seen[at] is None else greater(late[at], before[at]) for at in range(behavior.events)]
 
 
-def _least_times(behavior):
-    """Return the list of the least lengths from the issue to the events."""
-    steps = [(cause, effect, least) for cause, effect, least, _, _ in behavior.links]
-    return shortest(behavior.events, steps, Behavior.ISSUE)
+def least_times(behavior):
+    """Return the list of the least times from the issue to the events, None for those that no run has."""
+    return shortest(behavior.events, least_steps(behavior), Behavior.ISSUE)
 
 
-def _times_to_release(behavior):
-    """Return the list of the least lengths from the events to a release."""
-    steps = [(effect, cause, least) for cause, effect, least, _, _ in behavior.links]
-    return shortest(behavior.events, steps, Behavior.RELEASE)
+def times_to_release(behavior):
+    """Return the list of the least times from the events to a release, None where none can follow."""
+    return shortest(behavior.events, steps_back(least_steps(behavior)), Behavior.RELEASE)
 
 
-def _greatest_times(behavior):
-    """Return, for each event, the list of the greatest lengths from it to the events."""
-    steps = [(cause, effect, ENDLESS if most is None else most) for cause, effect, _, most, _ in behavior.links]
-    return [longest(behavior.events, steps, event) for event in range(behavior.events)]
+def least_steps(behavior):
+    """Return the steps of the links with their least delays."""
+    return [(cause, effect, least) for cause, effect, least, _, _ in behavior.links]
 
 
-def _forks(behavior, seen, back):
-    """Return a tuple (effect, most, early) for each link of an event that occurs beside which a release can come.
+def greatest_steps(behavior):
+    """Return the steps of the links with their greatest delays."""
+    return [(cause, effect, ENDLESS if most is None else most) for cause, effect, _, most, _ in behavior.links]
 
-    `early` is the least time from the event to the release, along another first link or this one once more.
+
+def steps_back(steps):
+    """Return the steps in the opposite direction."""
+    return [(after, before, length) for before, after, length in steps]
+
+
+def late_starts(behavior, seen, back):
+    """Return, for each event, how a walk may begin that comes to it the latest after a release, or None.
+
+    It is a tuple (late, link, beside): the link comes to the event so much later than the least walk comes to a
+    release that begins with the link `beside`. The walk may also begin at a release: it is (0, None, None) then.
     """
-    links = behavior.links
-    forks = []
-    for at, (cause, effect, _, most, _) in enumerate(links):
-        early = _least_beside(links, at, back)
-        if seen[cause] is not None and early is not None:
-            forks.append((effect, ENDLESS if most is None else most, early))
-    return forks
+    ways = _ways_to_release(behavior, back)
+    starts = [None] * behavior.events
+    starts[Behavior.RELEASE] = (0, None, None)
+    for at, (cause, effect, _, most, many) in enumerate(behavior.links):
+        way = _way_beside(ways[cause], at, many)
+        if seen[cause] is not None and way is not None:
+            late = ENDLESS if most is None else most - way[0]
+            if starts[effect] is None or greater(starts[effect][0], late) != starts[effect][0]:
+                starts[effect] = (late, at, way[1])
+    return starts
 
 
-def _least_beside(links, at, back):
-    """Return the least length from the link's cause to a release, if this link has been taken already."""
-    found = None
-    for other, (cause, effect, least, _, many) in enumerate(links):
-        if cause == links[at][0] and (other != at or many):
-            found = lesser(found, total(least, back[effect]))
+def late_times(behavior, starts):
+    """Return the list of the greatest times after a release of the walks that begin so."""
+    first = [None if start is None else start[0] for start in starts]
+    return longest(behavior.events, greatest_steps(behavior), first)
+
+
+def first_openings(opens, times):
+    """Return a dictionary with a tuple (time, event) for each port that is opened: when, and by what, it is first."""
+    found = {}
+    for event, port in opens:
+        time = times[event]
+        if time is not None and (port not in found or time < found[port][0]):
+            found[port] = (time, event)
     return found
 
 
-def _latest(event, back, forks, walks):
-    """Return the greatest lateness of an event that occurs, if a release can occur."""
-    found = walks[Behavior.RELEASE][event]
-    # The event may also come before the release, on one way with it, or on a way of its own from a common cause.
-    if back[event] is not None:
-        found = greater(found, -back[event])
-    for effect, most, early in forks:
-        found = greater(found, total(total(most, walks[effect][event]), -early))
-    return found
+def _ways_to_release(behavior, back):
+    """Return, for each event, the ascending list of (time, link): the least times to a release by each first link."""
+    ways = [[] for _ in back]
+    for at, (cause, effect, least, _, _) in enumerate(behavior.links):
+        if back[effect] is not None:
+            ways[cause].append((least + back[effect], at))
+    # The links differ, so a set loses none of them.
+    return [sorted(set(rows)) for rows in ways]
+
+
+def _way_beside(ways, link, many):
+    """Return the first one of the ways that can be taken where the link has been taken already, or None."""
+    for way in ways:
+        if many or way[1] != link:
+            return way
+    return None

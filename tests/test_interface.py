@@ -3,8 +3,12 @@ import inspect
 import unittest
 
 from reissue.behaviors import Behavior, is_run
+from reissue.certificates import certificate, check_certificate
 from reissue.errors import InvalidBehavior
+from reissue.rules import Rule, above, is_safe, staircase, turns_for, wait_for
 from reissue.times import earliest, lateness
+from reissue.traces import check_trace, trace
+from reissue.waits import excess, least_wait
 
 from samples import session
 
@@ -12,10 +16,18 @@ ERRORS = [
     "ReissueError", "InvalidBehavior", "InvalidNumber", "InvalidRule", "InvalidList", "InvalidName", "UnknownName",
     "TakenName", "NotOut", "NoneFree", "NothingToUndo",
 ]
-CLASSES = {"reissue.errors": ERRORS, "reissue.behaviors": ["Behavior"]}
+CLASSES = {"reissue.errors": ERRORS, "reissue.behaviors": ["Behavior"], "reissue.rules": ["Rule"]}
+PAIR = ["earlier", "later"]
 FUNCTIONS = {
     "reissue.behaviors": {"is_run": ["behavior", "run"]},
     "reissue.times": {"earliest": ["behavior"], "lateness": ["behavior"]},
+    "reissue.waits": {"excess": PAIR, "least_wait": PAIR},
+    "reissue.traces": {"trace": [*PAIR, "wait"], "check_trace": [*PAIR, "wait", "claim"]},
+    "reissue.certificates": {"certificate": [*PAIR, "wait"], "check_certificate": [*PAIR, "wait", "claim"]},
+    "reissue.rules": {
+        "is_safe": ["behavior", "rule"], "wait_for": ["behavior", "turns"], "turns_for": ["behavior", "wait"],
+        "staircase": ["behavior", "most"], "above": ["rules"],
+    },
 }
 
 
@@ -40,6 +52,14 @@ class Interface(unittest.TestCase):
             self.assertIn(name, vars(Behavior))
             self.assertTrue(hasattr(session(), name))
 
+    def test_rule(self):
+        parameters = inspect.signature(Rule).parameters
+        self.assertEqual(list(parameters), ["wait", "turns"])
+        self.assertEqual((parameters["wait"].default, parameters["turns"].default), (inspect.Parameter.empty, 1))
+        for name in ["wait", "turns", "__eq__", "__lt__", "__le__", "__gt__", "__ge__"]:
+            self.assertIn(name, vars(Rule))
+            self.assertTrue(hasattr(Rule(1), name))
+
 
 class Point1(unittest.TestCase):
     def test_by_position_and_by_name(self):
@@ -56,6 +76,18 @@ class Point1(unittest.TestCase):
 
 
 class Point2(unittest.TestCase):
+    def test_true_is_no_index_and_no_port(self):
+        ports = [(0, 0), (0, 1), (1, 0), (1, 1), (2, 1)]
+        behavior = Behavior(3, [(0, 1, 0, 0, False), (0, 2, 1, 5, False)], ports, ports)
+        good = ([], [([(1, 1)], 1)], [([(0, 0)], 1)], [], 1)
+        self.assertIs(check_trace(behavior, behavior, 0, good), True)
+        for wrong in [
+            ([], [([(True, 1)], 1)], *good[2:]), ([], [([(1, True)], 1)], *good[2:]),
+            ([], [([(1, 1)], True)], *good[2:]), (*good[:2], [([(False, 0)], 1)], [], 1),
+            (*good[:2], [([(0, False)], 1)], [], 1), (*good[:4], True),
+        ]:
+            self.assertIs(check_trace(behavior, behavior, 0, wrong), False)
+
     def test_true_is_no_whole_number(self):
         good = (2, [(1, 1, 1, 1, True)], [(1, 1)], [(1, 1)])
         self.assertEqual(Behavior(*good).events, 2)
@@ -77,7 +109,11 @@ class Point2(unittest.TestCase):
         links.append("later")
         self.assertEqual(caught.exception.value, (2, [(0, 1, 0, 0, 1), "later"], [], []))
         value = []
-        for function in [earliest, lateness, lambda behavior: is_run(behavior, [])]:
+        for function in [
+            earliest, lateness, lambda behavior: is_run(behavior, []), lambda behavior: excess(session(), behavior),
+            lambda behavior: trace(behavior, None, None), lambda behavior: certificate(session(), behavior, None),
+            lambda behavior: is_safe(behavior, None), lambda behavior: staircase(behavior, None),
+        ]:
             with self.assertRaises(InvalidBehavior) as caught:
                 function(value)
             self.assertIs(caught.exception.value, value)
@@ -90,10 +126,24 @@ class Point2(unittest.TestCase):
             self.assertIs((port in behavior).__class__, bool)
         self.assertIs((behavior == None).__class__, bool)  # noqa: E711
         self.assertIs((behavior == session()).__class__, bool)
+        for claim in [None, (), [], "", trace(behavior, behavior, 3), certificate(behavior, behavior, 80)]:
+            self.assertIs(check_trace(behavior, behavior, 3, claim).__class__, bool)
+            self.assertIs(check_certificate(behavior, behavior, 80, claim).__class__, bool)
+        for rule in [Rule(0), Rule(80), Rule(0, 60)]:
+            told = [rule == Rule(80), rule < Rule(80), rule <= Rule(80), rule > Rule(80), rule >= Rule(80), rule == 80]
+            self.assertEqual({one.__class__ for one in [*told, is_safe(behavior, rule)]}, {bool})
 
     def test_equal_arguments_give_equal_results(self):
         self.assertEqual(earliest(session()), earliest(session()))
         self.assertEqual(lateness(session()), lateness(session()))
+        for function in [excess, least_wait]:
+            self.assertEqual(function(session(), session()), function(session(), session()))
+        for function in [trace, certificate]:
+            for wait in [79, 80]:
+                self.assertEqual(function(session(), session(), wait), function(session(), session(), wait))
+        for function in [wait_for, turns_for, staircase]:
+            self.assertEqual(function(session(), 3), function(session(), 3))
+        self.assertEqual(above([Rule(9), Rule(1, 4)]), above([Rule(9), Rule(1, 4)]))
 
 
 if __name__ == "__main__":

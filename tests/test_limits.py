@@ -2,7 +2,11 @@ import time
 import unittest
 
 from reissue.behaviors import Behavior, is_run
+from reissue.certificates import certificate, check_certificate
+from reissue.rules import Rule, above, is_safe, staircase, turns_for, wait_for
 from reissue.times import earliest, lateness
+from reissue.traces import check_trace, trace
+from reissue.waits import excess, least_wait
 
 HIGH = 10 ** 40 - 1
 SECONDS = 5
@@ -27,6 +31,26 @@ def itself(least, most, many):
     ]]
 
 
+def slow_ones():
+    """Return behaviors at the limits for which a time for each pair of events takes long."""
+    forth, back = list(range(29)), list(range(28, -1, -1))
+    quick = [(at, at + 1, 2, 5, False) for at in forth]
+    again = [(29, 1, 2, 5, True)] * 2
+    return [
+        Behavior(30, [(at, at + 1, 3, 8, False) for at in forth] + quick, [(29, 0)], [(0, 0)]),
+        Behavior(30, [(at, at + 1, 3, None, False) for at in forth] + again + quick, [(29, 0)], [(0, 0)]),
+        Behavior(30, [(at, at + 1, 3, 5, True) for at in back] + again + quick[::-1], [(29, 0)], [(0, 0)]),
+    ]
+
+
+def forty():
+    """Return 40 behaviors at the limits, all ports in use."""
+    delays = [(0, 0), (0, 1), (1, 1), (HIGH, HIGH), (0, HIGH), (0, None)]
+    rows = [shape(*delay, many)[::turn] for shape in (row, ring, itself) for delay in delays for many in (False, True)
+            for turn in (1, -1)]
+    return [Behavior(30, links, PORTS, PORTS[::-1]) for links in rows[:37]] + slow_ones()
+
+
 class Point3(unittest.TestCase):
     def in_time(self, function, *arguments):
         begin = time.perf_counter()
@@ -44,6 +68,66 @@ class Point3(unittest.TestCase):
                         self.assertEqual(len(self.in_time(earliest, behavior)), 30)
                         self.assertEqual(len(self.in_time(lateness, behavior)), 30)
                         self.assertTrue(self.in_time(lambda one: one == one and 20 in one and 21 not in one, behavior))
+
+    def test_many_latenesses_in_time(self):
+        for behavior, late in zip(slow_ones(), [29 * 8 - 2, "endless", "endless"]):
+            found = self.in_time(lambda one: [lateness(one) for _ in range(1600)], behavior)
+            self.assertEqual([len(found), found[0][29]], [1600, late])
+
+    def test_waits_of_40_names_in_time(self):
+        behaviors = forty()
+        self.assertEqual(len(behaviors), 40)
+        found = self.in_time(lambda: [excess(one, other) for one in behaviors for other in behaviors])
+        self.assertEqual(len(found), 1600)
+        waits = self.in_time(lambda: [least_wait(one, other) for one in behaviors for other in behaviors])
+        self.assertIn("endless", waits)
+        self.assertIn(0, waits)
+
+    def test_traces_and_certificates_in_time(self):
+        behaviors = forty()[::3]
+        pairs = [(one, other) for one in behaviors for other in behaviors]
+        for wait in [0, HIGH]:
+            traces = self.in_time(lambda: [trace(*pair, wait) for pair in pairs])
+            shown = self.in_time(lambda: [certificate(*pair, wait) for pair in pairs])
+            self.in_time(self.check_all, pairs, wait, traces, shown)
+
+    def check_all(self, pairs, wait, traces, shown):
+        for pair, one, other in zip(pairs, traces, shown):
+            self.assertIs(check_trace(*pair, wait, one), one is not None)
+            self.assertIs(check_certificate(*pair, wait, other), one is None)
+
+    def test_told_walks_are_within_the_limits(self):
+        for behavior in forty():
+            claim = trace(behavior, behavior, HIGH)
+            for walk in [] if claim is None else claim[:4]:
+                self.assertLessEqual(len(walk), 60)
+                self.assertLessEqual(max([len(steps) for steps, _ in walk], default=0), 60)
+
+    def test_long_walks(self):
+        ring_of_20 = [(at, at + 1 if at < 21 else 2, 0, HIGH, True) for at in range(2, 22)]
+        behavior = Behavior(30, [(0, 1, HIGH, HIGH, False), (0, 2, 0, 0, False), *ring_of_20], [(2, 20)], [(0, 20)])
+        steps = [(link, HIGH) for link in range(2, 22)] * 3
+        late, early = [([(1, 0)], 1), *[(steps, HIGH)] * 59], [([(0, HIGH)], 1)]
+        self.assertEqual((len(late), len(steps)), (60, 60))
+        wait = 59 * HIGH * 60 * HIGH - HIGH
+        for more, good in [(0, False), (-1, True)]:
+            told = self.in_time(check_trace, behavior, behavior, wait + more, ([], late, early, [], 20))
+            self.assertIs(told, good)
+        for last in [(steps[:-1], HIGH), (steps[1:], HIGH), ([*steps[:-1], (21, HIGH + 1)], HIGH), (steps, 0)]:
+            self.assertIs(check_trace(behavior, behavior, 0, ([], [*late[:-1], last], early, [], 20)), False)
+
+    def test_rules_in_time(self):
+        for behavior in forty():
+            wait, turns = self.in_time(wait_for, behavior, 60), self.in_time(turns_for, behavior, 1)
+            self.assertEqual(self.in_time(is_safe, behavior, Rule(HIGH, HIGH)), wait != "endless")
+            self.assertEqual(wait == "endless", turns == "endless")
+            self.assertEqual(len(self.in_time(staircase, behavior, 60)) == 0, wait == "endless")
+
+    def test_rules_above_in_time(self):
+        rules = [Rule(10000 // turns, turns) for turns in range(1, 20)]
+        for more in [Rule(0, HIGH), Rule(0), Rule(9973)]:
+            for _ in range(20):
+                self.assertTrue(self.in_time(above, [*rules, more]))
 
     def test_row(self):
         behavior = Behavior(30, row(1, HIGH, False), [], [])

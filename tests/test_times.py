@@ -1,4 +1,3 @@
-import random
 import unittest
 
 from reissue.behaviors import is_run
@@ -6,22 +5,7 @@ from reissue.errors import InvalidBehavior
 from reissue.times import earliest, lateness
 
 from reckoning import FAR, lateness_of_walks, runs, times_of_runs
-from samples import linked, ping, session, values_but_behaviors
-
-
-def some_behaviors(count, events, links, seed):
-    """Return so many behaviors of at most so many events and links, the same ones for each seed."""
-    chance = random.Random(seed)
-    found = []
-    for _ in range(count):
-        size = chance.randint(2, events)
-        rows = []
-        for _ in range(chance.randint(1, links)):
-            least = chance.choice([0, 0, 1, 2, 3])
-            most = chance.choice([None, least, least, least + 1, least + 4])
-            rows.append((chance.randrange(size), chance.randrange(1, size), least, most, chance.random() < 0.4))
-        found.append(linked(size, *rows))
-    return found
+from samples import linked, ping, session, some_behaviors, values_but_behaviors
 
 
 class Example(unittest.TestCase):
