@@ -23,3 +23,9 @@ def check_at_least(value, low):
     """Raise InvalidNumber unless the value is a whole number that is not below the given one."""
     if not is_at_least(value, low):
         raise InvalidNumber(value)
+
+
+def check_index(value, size):
+    """Raise InvalidNumber unless the value is the index of one of that many items."""
+    if not is_index(value, size):
+        raise InvalidNumber(value)

@@ -15,19 +15,29 @@ def earliest(behavior):
 def lateness(behavior):
     """Return the list of the greatest times after the first release that the events can have in a run."""
     check_behavior(behavior)
-    seen = least_times(behavior)
-    if seen[Behavior.RELEASE] is None:
-        return [NEVER] * behavior.events
-    back = times_to_release(behavior)
-    late = late_times(behavior, late_starts(behavior, seen, back))
-    # An event may also come before the release, on one way with it.
-    before = [None if time is None else -time for time in back]
-    return [NEVER if seen[at] is None else greater(late[at], before[at]) for at in range(behavior.events)]
+    return [NEVER if time is None else time for time in times_after_release(behavior)]
 
 
 def least_times(behavior):
     """Return the list of the least times from the issue to the events, None for those that no run has."""
     return shortest(behavior.events, least_steps(behavior), Behavior.ISSUE)
+
+
+def greatest_times(behavior):
+    """Return the list of the greatest times from the issue to the events, None for those that no run has."""
+    return longest(behavior.events, greatest_steps(behavior), [0] + [None] * (behavior.events - 1))
+
+
+def times_after_release(behavior):
+    """Return the list of the greatest times from the first release to the events, None where no run has both."""
+    seen = least_times(behavior)
+    if seen[Behavior.RELEASE] is None:
+        return [None] * behavior.events
+    back = times_to_release(behavior)
+    late = late_times(behavior, late_starts(behavior, seen, back))
+    # An event may also come before the release, on one way with it.
+    before = [None if time is None else -time for time in back]
+    return [None if seen[at] is None else greater(late[at], before[at]) for at in range(behavior.events)]
 
 
 def times_to_release(behavior):
@@ -80,6 +90,16 @@ def first_openings(opens, times):
     for event, port in opens:
         time = times[event]
         if time is not None and (port not in found or time < found[port][0]):
+            found[port] = (time, event)
+    return found
+
+
+def last_hearings(heard, times):
+    """Return a dictionary with a tuple (time, event) for each port that is heard: when, and by what, it is last."""
+    found = {}
+    for event, port in heard:
+        time = times[event]
+        if time is not None and (port not in found or greater(found[port][0], time) != found[port][0]):
             found[port] = (time, event)
     return found
 

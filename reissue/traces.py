@@ -5,14 +5,14 @@ from reissue.checks import is_whole
 from reissue.latest import latest_way
 from reissue.lengths import ENDLESS, tight
 from reissue.times import late_starts, least_steps, least_times, steps_back, times_to_release
-from reissue.waits import check_case, worst_case
+from reissue.waits import check_case, hearings, openings, worst_case
 from reissue.walks import delay_sum, fewest_steps, first_link, led_to, walk_sum
 
 
 def trace(earlier, later, wait):
     """Return a tuple (start, late, early, opening, port) that shows that the wait is not safe, or None if it is."""
     check_case(earlier, later, wait)
-    worst = worst_case(earlier, later)
+    worst = worst_case(hearings(earlier), openings(later))
     if worst is None or worst[0] != ENDLESS and worst[0] <= wait:
         return None
     _, event, opener, port = worst

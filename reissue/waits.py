@@ -3,34 +3,60 @@
 from reissue.behaviors import check_behavior
 from reissue.checks import check_at_least
 from reissue.lengths import ENDLESS, greater, total
-from reissue.times import NEVER, first_openings, lateness, least_times
+from reissue.times import NEVER, first_openings, last_hearings, least_times, times_after_release
 
 
 def excess(earlier, later):
     """Return the greatest lateness of what is heard less the least time of what opens its port, ENDLESS, or NEVER."""
     check_behavior(earlier)
     check_behavior(later)
-    worst = worst_case(earlier, later)
+    worst = worst_case(hearings(earlier), openings(later))
     return NEVER if worst is None else worst[0]
 
 
 def least_wait(earlier, later):
     """Return the least wait that is safe, or ENDLESS if none is."""
-    found = excess(earlier, later)
-    if found == ENDLESS:
-        return ENDLESS
-    return 0 if found == NEVER else max(0, found)
+    check_behavior(earlier)
+    check_behavior(later)
+    return wait_against(hearings(earlier), openings(later))
 
 
-def worst_case(earlier, later):
+def waits_between(behaviors):
+    """Return, for each of the behaviors as the earlier one, the list of the least waits with each as the later one."""
+    opened = [openings(behavior) for behavior in behaviors]
+    rows = []
+    for behavior in behaviors:
+        heard = hearings(behavior)
+        rows.append([wait_against(heard, other) for other in opened])
+    return rows
+
+
+def hearings(behavior):
+    """Return a dictionary with a tuple (time, event) for each port: how late after a release it can be heard."""
+    return last_hearings(behavior.heard, times_after_release(behavior))
+
+
+def openings(behavior):
+    """Return a dictionary with a tuple (time, event) for each port: how early after the issue it can be opened."""
+    return first_openings(behavior.opens, least_times(behavior))
+
+
+def wait_against(heard, opened):
+    """Return the least wait, from when the times of what is heard count to the issue, that is safe, or ENDLESS."""
+    worst = worst_case(heard, opened)
+    if worst is None:
+        return 0
+    return ENDLESS if worst[0] == ENDLESS else max(0, worst[0])
+
+
+def worst_case(heard, opened):
     """Return a tuple (excess, event, opener, port) of what is heard the latest after its port is opened, or None."""
-    late = lateness(earlier)
-    openings = first_openings(later.opens, least_times(later))
     worst = None
-    for event, port in earlier.heard:
-        if late[event] != NEVER and port in openings:
-            time, opener = openings[port]
-            found = total(late[event], -time)
+    for port in heard:
+        if port in opened:
+            late, event = heard[port]
+            time, opener = opened[port]
+            found = total(late, -time)
             if worst is None or greater(worst[0], found) != worst[0]:
                 worst = (found, event, opener, port)
     return worst

@@ -48,6 +48,16 @@ def lateness_of_walks(behavior):
     ]
 
 
+def latest_of_walks(behavior):
+    """Return the greatest time of each event, by all walks of up to 2 and up to 4 times as many steps as events."""
+    steps = [(c, e, least + FAR if most is None else most) for c, e, least, most, _ in behavior.links]
+    short, long = (_within(0, turns * behavior.events, steps, max) for turns in (2, 4))
+    return [
+        "never" if event not in short else "endless" if short[event] != long[event] or short[event] >= FAR // 2
+        else short[event] for event in range(behavior.events)
+    ]
+
+
 def _lateness_within(behavior, steps):
     links = behavior.links
     lows = [[(c, e, least) for c, e, least, _, _ in links], min]

@@ -5,6 +5,8 @@ import unittest
 from reissue.behaviors import Behavior, is_run
 from reissue.certificates import certificate, check_certificate
 from reissue.errors import InvalidBehavior
+from reissue.library import Library
+from reissue.pools import Pool
 from reissue.rules import Rule, above, is_safe, staircase, turns_for, wait_for
 from reissue.times import earliest, lateness
 from reissue.traces import check_trace, trace
@@ -16,8 +18,13 @@ ERRORS = [
     "ReissueError", "InvalidBehavior", "InvalidNumber", "InvalidRule", "InvalidList", "InvalidName", "UnknownName",
     "TakenName", "NotOut", "NoneFree", "NothingToUndo",
 ]
-CLASSES = {"reissue.errors": ERRORS, "reissue.behaviors": ["Behavior"], "reissue.rules": ["Rule"]}
+CLASSES = {
+    "reissue.errors": ERRORS, "reissue.behaviors": ["Behavior"], "reissue.rules": ["Rule"], "reissue.pools": ["Pool"],
+    "reissue.library": ["Library"],
+}
 PAIR = ["earlier", "later"]
+KINDS = ["behaviors", "waits"]
+POOL = ["size", "holders", "pace", "lifetime"]
 FUNCTIONS = {
     "reissue.behaviors": {"is_run": ["behavior", "run"]},
     "reissue.times": {"earliest": ["behavior"], "lateness": ["behavior"]},
@@ -27,6 +34,24 @@ FUNCTIONS = {
     "reissue.rules": {
         "is_safe": ["behavior", "rule"], "wait_for": ["behavior", "turns"], "turns_for": ["behavior", "wait"],
         "staircase": ["behavior", "most"], "above": ["rules"],
+    },
+    "reissue.kinds": {
+        "are_safe": KINDS, "bad_row": KINDS, "check_bad_row": [*KINDS, "claim"], "least_entry": [*KINDS, "i", "j"],
+    },
+    "reissue.pools": {
+        "gap": POOL, "size_for": ["behavior", "holders", "pace", "wait"], "gap_of": [*POOL, "schedule"],
+        "worst_schedule": POOL,
+    },
+    "reissue.changes": {
+        "quiet": PAIR, "slack": [*PAIR, "wait", "link"], "tight_links": PAIR, "apart": ["one", "other"],
+        "check_apart": ["one", "other", "claim"],
+    },
+}
+METHODS = {
+    Pool: {"issue": ["time"], "release": ["number", "time"], "free": []},
+    Library: {
+        "put": ["name", "behavior"], "drop": ["name"], "change": ["name", "behavior"], "behavior": ["name"],
+        "wait_between": PAIR, "common_wait": [], "waits": [], "names": [], "copy": [], "back": [], "log": [],
     },
 }
 
@@ -59,6 +84,23 @@ class Interface(unittest.TestCase):
         for name in ["wait", "turns", "__eq__", "__lt__", "__le__", "__gt__", "__ge__"]:
             self.assertIn(name, vars(Rule))
             self.assertTrue(hasattr(Rule(1), name))
+
+    def test_methods_are_defined_in_their_classes(self):
+        for kind, methods in METHODS.items():
+            for name, parameters in methods.items():
+                self.assertIn(name, vars(kind))
+                self.assertEqual(list(inspect.signature(getattr(kind, name)).parameters), ["self", *parameters])
+        for kind, names in [(Pool, ["__len__", "__contains__"]), (Library, ["__len__", "__contains__", "__eq__"])]:
+            for name in names:
+                self.assertIn(name, vars(kind))
+
+    def test_pool_and_library(self):
+        parameters = inspect.signature(Pool).parameters
+        self.assertEqual(list(parameters), ["size", "order", "wait"])
+        self.assertEqual([one.default for one in parameters.values()], [inspect.Parameter.empty, "oldest", 0])
+        kinds = [inspect.Parameter.POSITIONAL_OR_KEYWORD, *[inspect.Parameter.KEYWORD_ONLY] * 2]
+        self.assertEqual([one.kind for one in parameters.values()], kinds)
+        self.assertEqual(list(inspect.signature(Library).parameters), [])
 
 
 class Point1(unittest.TestCase):

@@ -1,4 +1,3 @@
-import time
 import unittest
 
 from reissue.behaviors import Behavior, is_run
@@ -8,56 +7,10 @@ from reissue.times import earliest, lateness
 from reissue.traces import check_trace, trace
 from reissue.waits import excess, least_wait
 
-HIGH = 10 ** 40 - 1
-SECONDS = 5
-PORTS = [(event, port) for event in range(30) for port in range(21)]
+from shapes import HIGH, PORTS, Timed, forty, itself, ring, row, slow_ones
 
 
-def row(least, most, many):
-    """Return the links of 30 events in a row, two links from each event to the next."""
-    return [(event, event + 1, least, most, many) for event in range(29) for _ in range(2)]
-
-
-def ring(least, most, many):
-    """Return the links of 29 events in a ring, two from each to the next, and two from the issue to them."""
-    turns = [(event, event % 29 + 1, least, most, many) for event in range(1, 30) for _ in range(2)]
-    return [(0, 2, least, most, many), (0, 1, least, most, many), *turns]
-
-
-def itself(least, most, many):
-    """Return the links of 30 events in a row, and one from each event but the first to itself."""
-    return [link for event in range(29) for link in [
-        (event, event + 1, least, most, many), (event + 1, event + 1, least, most, many),
-    ]]
-
-
-def slow_ones():
-    """Return behaviors at the limits for which a time for each pair of events takes long."""
-    forth, back = list(range(29)), list(range(28, -1, -1))
-    quick = [(at, at + 1, 2, 5, False) for at in forth]
-    again = [(29, 1, 2, 5, True)] * 2
-    return [
-        Behavior(30, [(at, at + 1, 3, 8, False) for at in forth] + quick, [(29, 0)], [(0, 0)]),
-        Behavior(30, [(at, at + 1, 3, None, False) for at in forth] + again + quick, [(29, 0)], [(0, 0)]),
-        Behavior(30, [(at, at + 1, 3, 5, True) for at in back] + again + quick[::-1], [(29, 0)], [(0, 0)]),
-    ]
-
-
-def forty():
-    """Return 40 behaviors at the limits, all ports in use."""
-    delays = [(0, 0), (0, 1), (1, 1), (HIGH, HIGH), (0, HIGH), (0, None)]
-    rows = [shape(*delay, many)[::turn] for shape in (row, ring, itself) for delay in delays for many in (False, True)
-            for turn in (1, -1)]
-    return [Behavior(30, links, PORTS, PORTS[::-1]) for links in rows[:37]] + slow_ones()
-
-
-class Point3(unittest.TestCase):
-    def in_time(self, function, *arguments):
-        begin = time.perf_counter()
-        result = function(*arguments)
-        self.assertLess(time.perf_counter() - begin, SECONDS)
-        return result
-
+class Point3(Timed):
     def test_all_shapes_in_time(self):
         for shape in [row, ring, itself]:
             for least, most in [(0, 0), (0, 1), (1, 1), (HIGH, HIGH), (0, HIGH), (0, None), (HIGH, None)]:
