@@ -11,8 +11,8 @@ MOST_SIZE = 60
 OLDEST = "oldest"
 NEWEST = "newest"
 LOWEST = "lowest"
-ISSUE = "issue"
-RELEASE = "release"
+HANDED_OUT = "issue"
+TAKEN_BACK = "release"
 
 
 def gap(size, holders, pace, lifetime):
@@ -45,7 +45,7 @@ def gap_of(size, holders, pace, lifetime, schedule):
         raise InvalidList(schedule)
     issues, releases, out = [], [], {}
     for time, word, number in schedule:
-        if word == ISSUE:
+        if word == HANDED_OUT:
             fits = number == _number_in_turn(size, len(issues), releases) and len(out) < holders
             if not fits or issues and time - issues[-1] < pace:
                 raise InvalidList(schedule)
@@ -64,16 +64,16 @@ def gap_of(size, holders, pace, lifetime, schedule):
 def worst_schedule(size, holders, pace, lifetime):
     """Return a schedule with the least possible gap."""
     _check_pool(size, holders, pace, lifetime)
-    rows = [(number * pace, ISSUE, number) for number in range(holders)]
+    rows = [(number * pace, HANDED_OUT, number) for number in range(holders)]
     # Late enough for all to be released at once, and for the next issue at the same time.
     begin = (holders - 1) * pace + max(int(lifetime), int(pace))
-    rows.extend([(begin, RELEASE, number) for number in range(holders)])
+    rows.extend([(begin, TAKEN_BACK, number) for number in range(holders)])
     for turn in range(size - holders + 1):
         time = begin + _least_time(turn, holders, pace, lifetime)
         if turn >= holders:
-            rows.append((time, RELEASE, turn))
+            rows.append((time, TAKEN_BACK, turn))
         # The one that was released first comes behind all that were never issued.
-        rows.append((time, ISSUE, (holders + turn) % size))
+        rows.append((time, HANDED_OUT, (holders + turn) % size))
     return rows
 
 
@@ -180,7 +180,7 @@ def _is_row(value, size):
     if not isinstance(value, tuple) or len(value) != 3:
         return False
     time, word, number = value
-    return is_whole(time) and word in (ISSUE, RELEASE) and is_index(number, size)
+    return is_whole(time) and word in (HANDED_OUT, TAKEN_BACK) and is_index(number, size)
 
 
 def _number_in_turn(size, turn, releases):

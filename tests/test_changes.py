@@ -466,6 +466,8 @@ class Point72(unittest.TestCase):
             self.assertIs(check_apart(opening(2), opening(), (heard_late(late), "later")), told)
             self.assertIs(check_apart(opening(2), opening(), (heard_late(late), "earlier")), False)
         self.assertIs(check_apart(opening(2), opening(3), (heard_late(None), "later")), False)
+        for word in ["Later", "late", "laterr", "", "earlier later", None, True, 0, ["later"], ("later",), opening(2)]:
+            self.assertIs(check_apart(opening(2), opening(), (heard_late(4), word)), False)
 
     def test_long_numbers(self):
         self.assert_apart(heard_late(HIGH), heard_late(HIGH - 1), "earlier")
